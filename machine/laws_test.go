@@ -374,3 +374,39 @@ func TestAgain(t *testing.T) {
 		}
 	}
 }
+
+// P10.2: following a run tells the same as stepping: each block that it leaves, and to which side.
+func TestFollow(t *testing.T) {
+	type turn struct {
+		block int
+		to    bool
+	}
+	for _, x := range samples(t, 13, 600) {
+		for _, steps := range []int{0, 1, 3, 7, 20, 80} {
+			var want []turn
+			for _, m := range moves(t, x, steps) {
+				b := x.code.Blocks[m.before.Block]
+				if m.before.Next == b.Until && m.after.Out.Kind == 0 {
+					want = append(want, turn{m.before.Block, b.End.Kind == api.EndJump || m.before.Vals[b.End.A] == 1})
+				}
+			}
+			var got []turn
+			o, e := machine.Follow(x.code, x.input, steps, func(block int, to bool) { got = append(got, turn{block, to}) })
+			p, f := machine.Run(x.code, x.input, steps)
+			if !slices.Equal(got, want) || !same(o, p) || e != f {
+				t.Fatalf("%v: %d steps: got %v, %+v, %v, want %v, %+v, %v", x, steps, got, o, e, want, p, f)
+			}
+		}
+	}
+	valid := codeOf(blockOf(jump(1)), blockOf(accept()))
+	for _, x := range []struct {
+		c     api.Code
+		bytes int
+		steps int
+	}{{api.Code{}, 0, 5}, {valid, 65, 5}, {valid, 0, -1}, {valid, 0, 20001}} {
+		o, e := machine.Follow(x.c, make([]byte, x.bytes), x.steps, func(int, bool) { t.Error("no step may be made") })
+		if !same(o, api.Outcome{}) || e != api.ErrArg {
+			t.Errorf("%v: %+v, %v", x, o, e)
+		}
+	}
+}

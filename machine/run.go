@@ -15,6 +15,7 @@ type run struct {
 	code    api.Code
 	input   []byte
 	methods map[int]method
+	turn    func(block int, to bool) // is told each block that the run leaves
 }
 
 // begin returns a run at its beginning, and whether the code and the input are
@@ -23,7 +24,7 @@ func begin(c api.Code, input []byte) (*run, bool) {
 	if len(input) > api.MaxInput || !ssa.Valid(c) {
 		return nil, false
 	}
-	r := &run{code: c, input: input}
+	r := &run{code: c, input: input, turn: func(int, bool) {}}
 	r.Vals = make([]uint64, len(c.Insts))
 	r.methods = r.instructions()
 	return r, true
@@ -106,17 +107,23 @@ func (r *run) end() {
 	e := r.block().End
 	switch e.Kind {
 	case api.EndJump:
-		r.enter(e.To, e.ToArgs)
+		r.leave(e, true)
 	case api.EndBranch:
-		if r.Vals[e.A] == 1 {
-			r.enter(e.To, e.ToArgs)
-		} else {
-			r.enter(e.Else, e.ElseArgs)
-		}
+		r.leave(e, r.Vals[e.A] == 1)
 	case api.EndAccept:
 		r.Out = api.Outcome{Kind: api.OutAccept, At: e.At, N: r.Block, Values: slices.Clone(r.Values)}
 	case api.EndReject:
 		r.Out = api.Outcome{Kind: api.OutReject, Code: e.N, At: e.At, N: r.Block}
+	}
+}
+
+// leave goes from the block to To, or to Else.
+func (r *run) leave(e api.End, to bool) {
+	r.turn(r.Block, to)
+	if to {
+		r.enter(e.To, e.ToArgs)
+	} else {
+		r.enter(e.Else, e.ElseArgs)
 	}
 }
 
